@@ -3,6 +3,8 @@ package chain
 import (
 	"slices"
 	"testing"
+
+	"sluice/draws"
 )
 
 // grid is all pairs of numbers below n.
@@ -14,24 +16,6 @@ func grid(n int) []pair {
 		}
 	}
 	return l
-}
-
-// numbers gives some that look mixed, the same each time.
-func numbers(seed uint64) func(below int) int {
-	return func(below int) int {
-		seed = seed*6364136223846793005 + 1442695040888963407
-		return int(seed >> 33 % uint64(below))
-	}
-}
-
-// mixed is a new list of the same elements in another order.
-func mixed[T any](l []T, next func(int) int) []T {
-	m := slices.Clone(l)
-	for i := range m {
-		j := i + next(len(m)-i)
-		m[i], m[j] = m[j], m[i]
-	}
-	return m
 }
 
 // plain is a chain by the words of the promises: a list alone.
@@ -72,7 +56,7 @@ func (p *plain[T]) cut(v T) int {
 func TestAnyFunctionsGoByTheWords(t *testing.T) { // P3.2, P3.3
 	const n = 5
 	for seed := range uint64(400) {
-		next := numbers(seed)
+		next := draws.Numbers(seed)
 		// Each function is a table drawn at will: most of them are no orders.
 		draw := func(share int) func(a, b int) bool {
 			var holds [n][n]bool
@@ -128,7 +112,7 @@ func TestOrdersInWhichTwoMayBeTheSame(t *testing.T) { // P3.5
 	for _, below := range []func(x, y pair) bool{bothAtMost, byFirstNumber, byRest, always[pair]} {
 		for _, first := range []func(x, y pair) bool{byFirstThenSecond, never[pair], always[pair]} {
 			for seed := range uint64(60) {
-				next := numbers(seed)
+				next := draws.Numbers(seed)
 				c := New(below, first)
 				var handed []pair
 				for range 20 {
@@ -148,7 +132,7 @@ func TestOrdersInWhichTwoMayBeTheSame(t *testing.T) { // P3.5
 
 func TestTheListHangsOnWhatWasHandedInAlone(t *testing.T) { // P3.6
 	all := grid(3)
-	next := numbers(7)
+	next := draws.Numbers(7)
 	for bits := range 1 << len(all) {
 		var handed []pair
 		for i, x := range all {
@@ -169,7 +153,7 @@ func TestTheListHangsOnWhatWasHandedInAlone(t *testing.T) { // P3.6
 		}
 		for range 3 {
 			d := pairs()
-			d.Join(mixed(slices.Concat(handed, handed[:len(handed)/2]), next)...)
+			d.Join(draws.Mixed(slices.Concat(handed, handed[:len(handed)/2]), next)...)
 			holds(t, d, want...)
 		}
 	}
@@ -195,7 +179,7 @@ func TestManyOfWhichNoneIsAheadOfAnother(t *testing.T) { // P3.2, P3.6
 	for i := range n {
 		want = append(want, pair{i, n - i})
 	}
-	if in := c.Join(mixed(want, numbers(3))...); in != n {
+	if in := c.Join(draws.Mixed(want, draws.Numbers(3))...); in != n {
 		t.Errorf("Join answers %d, want %d", in, n)
 	}
 	holds(t, c, want...)
