@@ -8,38 +8,14 @@ import (
 	"testing"
 
 	"sluice/api"
+	"sluice/draws"
 )
 
-// roomy is the graph with lists that have room behind them, in which something stands.
-func roomy(g api.Graph) api.Graph {
-	g = cloned(g)
-	for i := range g.Nodes {
-		n := &g.Nodes[i]
-		n.Code = append(n.Code, api.Op{Kind: -7, Arg: 7})[:len(n.Code)]
-		n.Conns = append(n.Conns, api.Conn{In: -7, Out: -7})[:len(n.Conns)]
-	}
-	g.Nodes = append(g.Nodes, api.Node{Kind: -7})[:len(g.Nodes)]
-	g.Edges = append(g.Edges, api.Edge{From: -7})[:len(g.Edges)]
-	return g
-}
-
-// spare is the graph with what stands one behind each list.
-func spare(g api.Graph) api.Graph {
-	g.Nodes = slices.Clone(g.Nodes[:len(g.Nodes)+1])
-	for i := range g.Nodes[:len(g.Nodes)-1] {
-		n := &g.Nodes[i]
-		n.Code = slices.Clone(n.Code[:len(n.Code)+1])
-		n.Conns = slices.Clone(n.Conns[:len(n.Conns)+1])
-	}
-	g.Edges = slices.Clone(g.Edges[:len(g.Edges)+1])
-	return g
-}
-
 func TestAGraphHandedInStaysAsItWas(t *testing.T) { // P8.4, P2
-	g := roomy(all())
-	was := spare(g)
+	g := draws.Roomy(all())
+	was := draws.Spare(g)
 	b := there(t, g)
-	if !reflect.DeepEqual(spare(g), was) {
+	if !reflect.DeepEqual(draws.Spare(g), was) {
 		t.Error("what was handed in is changed")
 	}
 	kept := bytes.Clone(b)
@@ -52,11 +28,11 @@ func TestAGraphHandedInStaysAsItWas(t *testing.T) { // P8.4, P2
 	if !bytes.Equal(b, kept) {
 		t.Error("what was handed in is kept")
 	}
-	g = roomy(all())
+	g = draws.Roomy(all())
 	g.Edges[1].In = -1
-	was = spare(g)
+	was = draws.Spare(g)
 	fails(t, g, api.ErrEdge)
-	if !reflect.DeepEqual(spare(g), was) {
+	if !reflect.DeepEqual(draws.Spare(g), was) {
 		t.Error("what was handed in is changed beside an error")
 	}
 }

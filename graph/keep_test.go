@@ -7,6 +7,7 @@ import (
 	"testing"
 
 	"sluice/api"
+	"sluice/draws"
 )
 
 // full has every list, and something in each.
@@ -45,31 +46,6 @@ func same(g, h api.Graph) bool {
 		return reflect.DeepEqual(m, n)
 	}
 	return g.Arity == h.Arity && slices.EqualFunc(g.Nodes, h.Nodes, alike) && slices.Equal(g.Edges, h.Edges)
-}
-
-// roomy is the graph with lists that have room behind them, in which something stands.
-func roomy(g api.Graph) api.Graph {
-	g = cloned(g)
-	for i := range g.Nodes {
-		n := &g.Nodes[i]
-		n.Code = append(n.Code, api.Op{Kind: -7, Arg: 7})[:len(n.Code)]
-		n.Conns = append(n.Conns, api.Conn{In: -7, Out: -7})[:len(n.Conns)]
-	}
-	g.Nodes = append(g.Nodes, api.Node{Kind: -7})[:len(g.Nodes)]
-	g.Edges = append(g.Edges, api.Edge{From: -7})[:len(g.Edges)]
-	return g
-}
-
-// spare is the graph with what stands one behind each list.
-func spare(g api.Graph) api.Graph {
-	g.Nodes = slices.Clone(g.Nodes[:len(g.Nodes)+1])
-	for i := range g.Nodes[:len(g.Nodes)-1] {
-		n := &g.Nodes[i]
-		n.Code = slices.Clone(n.Code[:len(n.Code)+1])
-		n.Conns = slices.Clone(n.Conns[:len(n.Conns)+1])
-	}
-	g.Edges = slices.Clone(g.Edges[:len(g.Edges)+1])
-	return g
 }
 
 // spoil writes over every list of a graph, and over the room behind it.
@@ -116,24 +92,24 @@ func TestRawIsWhatNewWasGiven(t *testing.T) { // P9.2
 }
 
 func TestAGraphHandedInStaysAsItWas(t *testing.T) { // P9.2, P2
-	raw := roomy(full())
-	was := spare(raw)
+	raw := draws.Roomy(full())
+	was := draws.Spare(raw)
 	g := ask(t, "full", raw, api.OK, 0)
 	told(g)
-	if !reflect.DeepEqual(spare(raw), was) {
+	if !reflect.DeepEqual(draws.Spare(raw), was) {
 		t.Error("what was handed in is changed")
 	}
-	raw = roomy(full())
+	raw = draws.Roomy(full())
 	raw.Edges[3].In = -1
-	was = spare(raw)
+	was = draws.Spare(raw)
 	ask(t, "an edge that may not be", raw, api.ErrEdge, 11)
-	if !reflect.DeepEqual(spare(raw), was) {
+	if !reflect.DeepEqual(draws.Spare(raw), was) {
 		t.Error("what was handed in is changed beside an error")
 	}
 }
 
 func TestAGraphHandedInIsNotKept(t *testing.T) { // P9.2, P2
-	raw := roomy(full())
+	raw := draws.Roomy(full())
 	g := ask(t, "full", raw, api.OK, 0)
 	was := told(g)
 	spoil(raw)
