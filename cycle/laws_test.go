@@ -9,54 +9,18 @@ import (
 	"sluice/path"
 )
 
-// hop is an edge or a connection, from place to place.
-type hop struct {
-	from, to int
-	by       api.Path
-}
-
-// hops are all edges and connections of a graph; and how many places it has. The places are numbered here by DOC.md's words.
-func hops(g api.Graph) ([]hop, int) {
-	var l []hop
-	ins, outs, next := make([]int, len(g.Nodes)), make([]int, len(g.Nodes)), 0
-	for i, n := range g.Nodes {
-		ins[i], outs[i] = next, next+n.Ins
-		next += n.Ins + n.Outs
-	}
-	for i, n := range g.Nodes {
-		switch n.Kind {
-		case api.KMap, api.KFilter, api.KSum:
-			l = append(l, hop{from: ins[i], to: outs[i]})
-		case api.KJoin:
-			for p := range n.Ins {
-				l = append(l, hop{from: ins[i] + p, to: outs[i]})
-			}
-		case api.KLoop:
-			l = append(l, hop{ins[i], outs[i], n.By})
-		case api.KFree:
-			for _, c := range n.Conns {
-				l = append(l, hop{ins[i] + c.In, outs[i] + c.Out, c.By})
-			}
-		}
-	}
-	for _, d := range g.Edges {
-		l = append(l, hop{from: outs[d.From] + d.Out, to: ins[d.To] + d.In})
-	}
-	return l, next
-}
-
 // plain is a graph's empty steps: step[p][q] tells whether one leads from p to q.
 type plain [][]bool
 
 func plainSteps(g api.Graph) plain {
-	l, places := hops(g)
+	l, places := draws.Steps(g)
 	step := make(plain, places)
 	for p := range step {
 		step[p] = make([]bool, places)
 	}
 	for _, h := range l {
-		if h.by.A == 0 && h.by.B == 0 && h.by.C == 0 {
-			step[h.from][h.to] = true
+		if h.By.A == 0 && h.By.B == 0 && h.By.C == 0 {
+			step[h.From][h.To] = true
 		}
 	}
 	return step
@@ -241,22 +205,22 @@ func TestGreatGraphsAgainstTheWords(t *testing.T) { // P10.1 to P10.4
 	}
 }
 
-// turns goes once round every cycle of edges and connections that begins with the first hop of a way, and tells its path; not ok: it is none.
-func turns(l []hop, way []hop, tell func(p api.Path, ok bool)) {
+// turns goes once round every cycle of edges and connections that begins with the first step of a way, and tells its path; not ok: it is none.
+func turns(l []draws.Step, way []draws.Step, tell func(p api.Path, ok bool)) {
 	last := way[len(way)-1]
-	if last.to == way[0].from {
+	if last.To == way[0].From {
 		var p api.Path
 		ok := true
 		for _, h := range way {
 			if ok {
-				p, ok = path.Then(p, h.by)
+				p, ok = path.Then(p, h.By)
 			}
 		}
 		tell(p, ok)
 		return
 	}
 	for _, h := range l {
-		if h.from == last.to && !slices.ContainsFunc(way, func(o hop) bool { return o.from == h.from }) {
+		if h.From == last.To && !slices.ContainsFunc(way, func(o draws.Step) bool { return o.From == h.From }) {
 			turns(l, append(slices.Clone(way), h), tell)
 		}
 	}
@@ -268,9 +232,9 @@ func TestWhatACycleGoesBy(t *testing.T) { // P10.4
 		raw := draws.Graph(draws.Numbers(uint64(seed)), 6, 9)
 		_, e := Order(made(t, "drawn", raw))
 		stood := false
-		l, _ := hops(raw)
+		l, _ := draws.Steps(raw)
 		for _, h := range l {
-			turns(l, []hop{h}, func(p api.Path, ok bool) {
+			turns(l, []draws.Step{h}, func(p api.Path, ok bool) {
 				switch {
 				case !ok:
 					nothing++
