@@ -115,7 +115,7 @@ func several(t *testing.T) []*Worker {
 	for place := range 15 {
 		rest.Pass(msg(place, at(1), 8, 1))
 	}
-	late := begin(t, busy(), 3, 1)
+	late := begin(t, draws.Busy(), 3, 1)
 	for i := range uint64(30) {
 		send(5, at(i%3, i%2), rec(i, i), wide).of(late)
 		send(7, at(i%3, i%2), rec(i, i), wide).of(late)
@@ -123,7 +123,7 @@ func several(t *testing.T) []*Worker {
 			step(wide).of(late)
 		}
 	}
-	return []*Worker{alone(t, summed()), full, rest, late, begin(t, rounds(), 8, 7), begin(t, api.Graph{Arity: 3}, 1, 0)}
+	return []*Worker{alone(t, summed()), full, rest, late, begin(t, draws.Rounds(), 8, 7), begin(t, api.Graph{Arity: 3}, 1, 0)}
 }
 
 func TestWhatIsToldIsNewMemory(t *testing.T) { // P2, P3
@@ -289,7 +289,7 @@ func TestManyAskAtOnce(t *testing.T) { // P3, P5: asking writes nothing, so many
 func TestCopiesGoOnApart(t *testing.T) { // P25.9, P5: drawn scripts on both
 	for seed := range uint64(150) {
 		next := draws.Numbers(seed)
-		raw := drawnGraph(next)
+		raw := draws.Lively(next)
 		crowds := []*crowd{crowdOf(t, raw, 1+next(3), next, map[string]int{})}
 		for range 150 {
 			c := crowds[next(len(crowds))]

@@ -289,39 +289,6 @@ func (c *crowd) goesOn(t *testing.T, odd int) {
 	}
 }
 
-// drawnGraph is one of all kinds of nodes, or one of some in which much goes on.
-func drawnGraph(next func(below int) int) api.Graph {
-	switch next(8) {
-	case 0:
-		return ring()
-	case 1:
-		return busy()
-	case 2:
-		return rounds()
-	case 3:
-		return row(input(), sum(), mapper(api.Op{Kind: 3, Arg: 2}), sum(), loop(by(1), 5), trap())
-	}
-	return draws.Coded(next, draws.Advancing(next, 9, 20))
-}
-
-// busy has all kinds of nodes but free ones, with a sum and a map within a loop, and a loop that goes on to an earlier node.
-func busy() api.Graph {
-	return api.Graph{Arity: 2, Nodes: []api.Node{
-		join(3), sum(), mapper(api.Op{Kind: 3, Arg: 4}, api.Op{Kind: 5, Arg: 1}), loop(by(0, 1), 3), trap(), input(), filter(api.Op{Kind: 25, Arg: 2}), input(), sum(), trap(),
-	}, Edges: []api.Edge{
-		{From: 5, To: 0}, {From: 7, To: 6, Keyed: true}, {From: 6, To: 0, In: 1}, keyed(0, 1), edge(1, 2), edge(1, 4), keyed(2, 3), {From: 3, To: 0, In: 2}, keyed(2, 8), edge(8, 9), edge(8, 4),
-	}}
-}
-
-// rounds is two free nodes and a sum in a round, with a probe.
-func rounds() api.Graph {
-	return api.Graph{Arity: 1, Nodes: []api.Node{
-		free(true, 1, 2, api.Conn{By: by(1)}, api.Conn{Out: 1}, api.Conn{Out: 1, By: by(2)}), sum(), free(false, 2, 1, api.Conn{}, api.Conn{In: 1}, api.Conn{In: 1, By: by(last)}), trap(), loop(by(), 0),
-	}, Edges: []api.Edge{
-		{From: 0, Out: 0, To: 1, Keyed: true}, {From: 1, To: 2}, {From: 0, Out: 1, To: 2, In: 1, Keyed: true}, {From: 2, To: 4, Keyed: true}, edge(4, 3), keyed(2, 3),
-	}}
-}
-
 // answersOfActs are the numbers that each kind of act may answer.
 func answersOfActs() map[string][]api.Errno {
 	return map[string][]api.Errno{
@@ -345,7 +312,7 @@ func TestDrawnScripts(t *testing.T) { // P25.1 to P25.8, P3, P4
 	catches, sums := 0, 0
 	for seed := range uint64(700) {
 		next := draws.Numbers(seed)
-		raw := drawnGraph(next)
+		raw := draws.Lively(next)
 		c := crowdOf(t, raw, 1+next(4), next, often)
 		odd := 20 * next(2)
 		for range 120 {
@@ -436,7 +403,7 @@ func (c *crowd) safe(t *testing.T) {
 func TestDrawnWorkersAreSafeAndExact(t *testing.T) { // DOC.md, P6 and P7
 	for seed := range uint64(150) {
 		next := draws.Numbers(seed)
-		raw := drawnGraph(next)
+		raw := draws.Lively(next)
 		c := crowdOf(t, raw, 1+next(4), next, map[string]int{})
 		for range 100 {
 			c.goesOn(t, 0)

@@ -136,7 +136,7 @@ func looks(g *graph.Graph) string {
 }
 
 func TestTheGraphStaysAsItWas(t *testing.T) { // P25.1, P2, P5
-	for i, raw := range []api.Graph{summed(), taking(), ring(), busy(), rounds(), doubling(6), doubling(7), stands(), greatest(true)} {
+	for i, raw := range []api.Graph{summed(), taking(), draws.Ring(), draws.Busy(), draws.Rounds(), doubling(6), doubling(7), stands(), greatest(true)} {
 		raw = draws.Roomy(raw)
 		was := draws.Spare(raw)
 		g := made(t, raw)

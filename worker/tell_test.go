@@ -3,6 +3,8 @@ package worker
 import (
 	"math"
 	"testing"
+
+	"sluice/draws"
 )
 
 func TestTokens(t *testing.T) { // P25.7
@@ -49,7 +51,7 @@ func TestNumbersThatAreNone(t *testing.T) { // P25.7
 }
 
 func TestFrontAndOpenAreTheViews(t *testing.T) { // P25.7
-	w := begin(t, ring(), 2, 0)
+	w := begin(t, draws.Ring(), 2, 0)
 	for place := range 7 {
 		want := at()
 		if place == 2 || place == 5 {

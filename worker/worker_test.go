@@ -10,6 +10,7 @@ import (
 
 	"sluice/api"
 	"sluice/batch"
+	"sluice/draws"
 	"sluice/graph"
 	"sluice/route"
 )
@@ -88,11 +89,6 @@ func taking() api.Graph {
 
 // starting is a free node with a capability at the place 0, number 1, and a probe 1.
 func starting() api.Graph { return row(free(true, 0, 1), trap()) }
-
-// ring is DOC.md's fifth example: input 0, join 1 2 3, loop 4 5, probe 6; the loop leads back to the join.
-func ring() api.Graph {
-	return api.Graph{Arity: 1, Nodes: []api.Node{input(), join(2), loop(by(1), 2), trap()}, Edges: []api.Edge{edge(0, 1), edge(1, 2), {From: 2, To: 1, In: 1}, edge(1, 3)}}
-}
 
 // greatest has as many places as there can be: 8 n to 8 n + 3 are the in-places of the node n, the next four its out-places.
 func greatest(start bool) api.Graph {
@@ -492,7 +488,7 @@ func TestUsesHeardAheadOfMakings(t *testing.T) { // DOC.md, the fourth example o
 }
 
 func TestRoundALoop(t *testing.T) { // DOC.md, the fifth example of the whole
-	w := alone(t, ring())
+	w := alone(t, draws.Ring())
 	does(t, w, send(0, at(), rec(1, 1), 9), ch(1, 1, 0))
 	does(t, w, send(0, at(7), rec(2, 2), 9), ch(1, 1, 7))
 	for range 4 {
